@@ -1,0 +1,1 @@
+"""Boundsmith: schedules with bounds that show none is better."""
