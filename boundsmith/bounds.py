@@ -1,0 +1,77 @@
+"""Bounds of ways, and of crowds on machines."""
+
+from boundsmith.counting import NET_WORTHS, need_worth, own_tail
+from boundsmith.errors import BadTasks
+from boundsmith.nets import first_of, heads, is_ring, is_task_of, steps, tails
+from boundsmith.parts import LENGTH, MACHINE, MACHINES, TASKS
+
+
+def are_tasks(book, thing):
+    """Whether it is a list of tasks of the book, one at least."""
+    return isinstance(thing, list) and len(thing) > 0 and all([is_task_of(book, task) for task in thing])
+
+
+def is_way(book, gaps, thing):
+    """Whether it is a list of tasks, one at least, each right ahead of the next one."""
+    return are_tasks(book, thing) and all([pair in gaps for pair in zip(thing, thing[1:])])
+
+
+def lengths_of(book, tasks):
+    """The lengths of the tasks, all together."""
+    return sum([book[TASKS][task][LENGTH] for task in tasks])
+
+
+def way_bound(book, arcs, worth, way):
+    """The bound of a way; None of what is none, with a ring, and where the last one does not count."""
+    gaps = steps(book, arcs)
+    need_worth(worth, NET_WORTHS)
+    if is_ring(book, arcs) or not is_way(book, gaps, way):
+        return None
+    rest = own_tail(book, worth, way[-1])
+    if rest is None:
+        return None
+    between = sum([gaps[pair] for pair in zip(way, way[1:])])
+    return first_of(book, way[0]) + lengths_of(book, way) + between + rest
+
+
+def is_crowd(book, thing):
+    """Whether it is a list of unlike tasks, one at least, all of one machine."""
+    if not are_tasks(book, thing) or len(set(thing)) < len(thing):
+        return False
+    machine = book[TASKS][thing[0]][MACHINE]
+    return machine != "" and all([book[TASKS][task][MACHINE] == machine for task in thing])
+
+
+def crowd_sum(book, begins, rests, crowd):
+    """The bound of a crowd by heads and tails; None where one of it has no tail."""
+    last = [rests[task] for task in crowd]
+    if None in last:
+        return None
+    return min([begins[task] for task in crowd]) + lengths_of(book, crowd) + min(last)
+
+
+def crowd_bound(book, arcs, worth, tasks):
+    """The bound of a crowd; None of what is none, with a ring, and where one of it has no tail."""
+    begins = heads(book, arcs)
+    rests = tails(book, arcs, worth)
+    if begins is None or not is_crowd(book, tasks):
+        return None
+    return crowd_sum(book, begins, rests, tasks)
+
+
+def best_crowd(book, arcs, worth, machine):
+    """A tuple (BOUND, TASKS) of a crowd of the machine with the greatest bound; None where there is none."""
+    begins = heads(book, arcs)
+    rests = tails(book, arcs, worth)
+    if machine not in book[MACHINES]:
+        raise BadTasks("no machine of the book")
+    if begins is None:
+        return None
+    mine = [task for task, row in enumerate(book[TASKS]) if row[MACHINE] == machine and rests[task] is not None]
+    told = []
+    for start in sorted({begins[task] for task in mine}):
+        for rest in sorted({rests[task] for task in mine}):
+            crowd = [task for task in mine if begins[task] >= start and rests[task] >= rest]
+            if crowd:
+                told.append((crowd_sum(book, begins, rests, crowd), crowd))
+    return max(told, default=None)
