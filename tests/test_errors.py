@@ -65,6 +65,15 @@ class Fields(unittest.TestCase):
             one(thing)
             self.assertEqual(thing, [1, ([2], {3: [4]}), deep("list", 150)])
 
+    def test_what_is_handed_in_is_not_kept_as_it_is(self):
+        for one, field in FIELDS:
+            thing = [1, ([2], {3: [4]})]
+            error = one(thing)
+            thing[1][0].append(5)
+            thing[1][1][3].append(6)
+            thing.append(7)
+            self.assertEqual(getattr(error, field), [1, ([2], {3: [4]})])
+
     def test_raised_with_the_field(self):
         for one, field in FIELDS:
             with self.assertRaises(PlanError) as caught:
