@@ -1,19 +1,10 @@
 """Plans by lists."""
 
 from boundsmith.books import ahead_of, gap_of
-from boundsmith.errors import BadTasks
-from boundsmith.names import is_whole
+from boundsmith.orders import need_order
 from boundsmith.parts import FIXED, FROM, GOODS, LENGTH, MACHINE, NEEDS, TASKS
 from boundsmith.plans import fault_of
 from boundsmith.uses import end_of, most_used, uses_of_good, uses_of_machine
-
-
-def need_all_tasks(book, row):
-    """Refuse what is no list of all tasks, each once."""
-    if not isinstance(row, list) or not all([is_whole(task) for task in row]):
-        raise BadTasks("no list of whole numbers")
-    if sorted(row) != list(range(len(book[TASKS]))):
-        raise BadTasks("not each task stands once in the list")
 
 
 def least_begin(book, begins, ahead, task):
@@ -46,7 +37,7 @@ def free_hour(book, begins, ahead, task):
 
 def plan_by(book, row):
     """The plan that a row of all tasks makes; None where it is not good."""
-    need_all_tasks(book, row)
+    need_order(len(book[TASKS]), row)
     ahead = ahead_of(book)
     begins = dict(book[FIXED])
     left = [task for task in row if task not in begins]

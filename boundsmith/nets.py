@@ -57,9 +57,8 @@ def followers_of(book, gaps):
     return behind
 
 
-def heads(book, arcs):
-    """The heads of all tasks; None with a ring."""
-    gaps = steps(book, arcs)
+def heads_by(book, gaps):
+    """The heads of all tasks by a net's gaps; None with a ring."""
     order = order_of(len(book[TASKS]), list(gaps))
     if order is None:
         return None
@@ -72,10 +71,8 @@ def heads(book, arcs):
     return told
 
 
-def tails(book, arcs, worth):
-    """The tails of all tasks, None of those without one; None with a ring."""
-    gaps = steps(book, arcs)
-    need_worth(worth, NET_WORTHS)
+def tails_by(book, gaps, worth):
+    """The tails of all tasks by a net's gaps, None of those without one; None with a ring."""
     order = order_of(len(book[TASKS]), list(gaps))
     if order is None:
         return None
@@ -87,6 +84,18 @@ def tails(book, arcs, worth):
                 rest = gap + book[TASKS][follower][LENGTH] + told[follower]
                 told[task] = rest if told[task] is None else max(told[task], rest)
     return told
+
+
+def heads(book, arcs):
+    """The heads of all tasks; None with a ring."""
+    return heads_by(book, steps(book, arcs))
+
+
+def tails(book, arcs, worth):
+    """The tails of all tasks, None of those without one; None with a ring."""
+    gaps = steps(book, arcs)
+    need_worth(worth, NET_WORTHS)
+    return tails_by(book, gaps, worth)
 
 
 def way_to(book, gaps, begins, task):

@@ -1,4 +1,15 @@
-"""Orders of things by what goes ahead of what."""
+"""Orders of things: lists of all numbers, and what goes ahead of what."""
+
+from boundsmith.errors import BadTasks
+from boundsmith.names import is_whole
+
+
+def need_order(many, thing):
+    """Refuse what is no list of all numbers below many, each once."""
+    if not isinstance(thing, list) or not all([is_whole(number) for number in thing]):
+        raise BadTasks("no list of whole numbers")
+    if sorted(thing) != list(range(many)):
+        raise BadTasks("not each number stands once in the list")
 
 
 def order_of(many, pairs):
