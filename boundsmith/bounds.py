@@ -2,7 +2,7 @@
 
 from boundsmith.counting import NET_WORTHS, need_worth, own_tail
 from boundsmith.errors import BadTasks
-from boundsmith.nets import first_of, heads, is_ring, is_task_of, steps, tails
+from boundsmith.nets import first_of, goes_round, heads, heads_by, is_task_of, steps, tails, tails_by
 from boundsmith.parts import LENGTH, MACHINE, MACHINES, TASKS
 
 
@@ -21,17 +21,24 @@ def lengths_of(book, tasks):
     return sum([book[TASKS][task][LENGTH] for task in tasks])
 
 
+def way_end(book, gaps, way):
+    """The hour at which the last one of a way ends, if the first one begins by itself."""
+    return first_of(book, way[0]) + lengths_of(book, way) + sum([gaps[pair] for pair in zip(way, way[1:])])
+
+
+def bound_of_way(book, gaps, worth, way):
+    """The bound of a way by a net's gaps, which do not go round; None of what is none, and without a bound."""
+    if not is_way(book, gaps, way):
+        return None
+    rest = own_tail(book, worth, way[-1])
+    return None if rest is None else way_end(book, gaps, way) + rest
+
+
 def way_bound(book, arcs, worth, way):
     """The bound of a way; None of what is none, with a ring, and where the last one does not count."""
     gaps = steps(book, arcs)
     need_worth(worth, NET_WORTHS)
-    if is_ring(book, arcs) or not is_way(book, gaps, way):
-        return None
-    rest = own_tail(book, worth, way[-1])
-    if rest is None:
-        return None
-    between = sum([gaps[pair] for pair in zip(way, way[1:])])
-    return first_of(book, way[0]) + lengths_of(book, way) + between + rest
+    return None if goes_round(book, gaps) else bound_of_way(book, gaps, worth, way)
 
 
 def is_crowd(book, thing):
@@ -50,13 +57,19 @@ def crowd_sum(book, begins, rests, crowd):
     return min([begins[task] for task in crowd]) + lengths_of(book, crowd) + min(last)
 
 
-def crowd_bound(book, arcs, worth, tasks):
-    """The bound of a crowd; None of what is none, with a ring, and where one of it has no tail."""
-    begins = heads(book, arcs)
-    rests = tails(book, arcs, worth)
+def bound_of_crowd(book, gaps, worth, tasks):
+    """The bound of a crowd by a net's gaps; None of what is none, with a ring, and without a bound."""
+    begins = heads_by(book, gaps)
     if begins is None or not is_crowd(book, tasks):
         return None
-    return crowd_sum(book, begins, rests, tasks)
+    return crowd_sum(book, begins, tails_by(book, gaps, worth), tasks)
+
+
+def crowd_bound(book, arcs, worth, tasks):
+    """The bound of a crowd; None of what is none, with a ring, and where one of it has no tail."""
+    gaps = steps(book, arcs)
+    need_worth(worth, NET_WORTHS)
+    return bound_of_crowd(book, gaps, worth, tasks)
 
 
 def best_crowd(book, arcs, worth, machine):

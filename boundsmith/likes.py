@@ -14,7 +14,7 @@ def is_length(thing):
 
 
 def pieces_by(machines, rows, span):
-    """The pieces of rows that fill one machine after the other, each up to the span."""
+    """The pieces of rows that fill one machine after the other, each up to the span; so they rise as they come."""
     pieces = []
     begin = 0
     for number, length in enumerate(rows):
@@ -25,7 +25,7 @@ def pieces_by(machines, rows, span):
             if first < behind:
                 pieces.append((machine, number, first, behind))
         begin += length
-    return sorted(pieces)
+    return pieces
 
 
 def parted_span(machines, rows):

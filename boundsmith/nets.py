@@ -44,9 +44,21 @@ def steps(book, arcs):
     return {pair: gaps[pair] for pair in sorted(gaps)}
 
 
+def with_arc(gaps, arc):
+    """A net's gaps with one arc more."""
+    more = {pair: gaps[pair] for pair in gaps}
+    more[arc] = gaps.get(arc, 0)
+    return more
+
+
+def goes_round(book, gaps):
+    """Whether a net of such gaps goes round."""
+    return order_of(len(book[TASKS]), list(gaps)) is None
+
+
 def is_ring(book, arcs):
     """Whether waits and arcs go round."""
-    return order_of(len(book[TASKS]), list(steps(book, arcs))) is None
+    return goes_round(book, steps(book, arcs))
 
 
 def followers_of(book, gaps):

@@ -1,7 +1,7 @@
 """Stretches: hours in which more must lie of a machine or a good than there is room for."""
 
 from boundsmith.counting import NET_WORTHS, need_worth
-from boundsmith.nets import followers_of, heads_by, steps, tails_by
+from boundsmith.nets import followers_of, goes_round, heads_by, steps, tails_by
 from boundsmith.orders import order_of
 from boundsmith.parts import FIXED, GOODS, LENGTH, MACHINE, MACHINES, NEEDS, TASKS
 
@@ -83,11 +83,8 @@ def is_crowded(loads, room, first, behind):
 
 def shows_stretch(book, gaps, worth, bound, name, first, behind):
     """Whether a stretch shows the bound by a net's gaps, which do not go round."""
-    room = room_of(book, name)
-    if room == 0:
-        return False
     loads = loads_of(book, heads_by(book, gaps), latest_by(book, gaps, worth, bound), name)
-    return ends_too_late(loads) or is_crowded(loads, room, first, behind)
+    return ends_too_late(loads) or is_crowded(loads, room_of(book, name), first, behind)
 
 
 def latest_ends(book, arcs, worth, bound):
@@ -108,7 +105,7 @@ def must_lie(book, arcs, worth, bound, task, first, behind):
 def is_stretch(book, arcs, worth, bound, name, first, behind):
     """Whether a stretch shows the bound; False with a ring, and of what is no name of a machine or a good."""
     gaps = net_of(book, arcs, worth)
-    if order_of(len(book[TASKS]), list(gaps)) is None:
+    if goes_round(book, gaps):
         return False
     return shows_stretch(book, gaps, worth, bound, name, first, behind)
 

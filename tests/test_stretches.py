@@ -311,6 +311,10 @@ class IsStretch(unittest.TestCase):
         self.assertFalse(is_stretch(book, [], "span", 4, "glue", 0, 9))
         self.assertFalse(is_stretch(book, [], "span", 4, "saw", 0, 9))
 
+    def test_hours_that_do_not_rise(self):
+        for first, behind in ((0, 0), (5, 5), (9, 0), (1, 0)):
+            self.assertIs(is_stretch(saw_book(), [], "span", 12, "saw", first, behind), False)
+
     def test_none_as_the_bound(self):
         tasks = [task("a", 4, "saw"), task("b", 3, "saw"), task("c", 2)]
         for begin, late in ((6, True), (7, False)):
