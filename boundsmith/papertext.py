@@ -2,6 +2,7 @@
 
 from boundsmith.errors import BadText
 from boundsmith.names import number_of
+from boundsmith.papers import MOST_PAPERS, MOST_WITHIN
 
 CASES = "cases"
 STRETCH = "stretch"
@@ -96,7 +97,8 @@ def paper_of(text):
     paper = None
     for at, row in enumerate(rows):
         part = read_part(row)
-        if paper is not None or part is None:
+        # The cases around a row are just those within which its paper lies.
+        if part is None or paper is not None or at >= MOST_PAPERS or len(around) >= MOST_WITHIN:
             raise BadText(at + 1)
         paper = put_in(around, part)
     if paper is None:

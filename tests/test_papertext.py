@@ -226,22 +226,47 @@ class Rows(Case):
 
 class Great(Case):
     def test_within_each_other(self):
-        for many in (59, 60, 61, 70):
+        for many in (2, 59, 60):
             for first in (True, False):
                 paper, rows = nested(many, first=first)
                 self.assertEqual(paper_text(paper), "\n".join(rows))
                 self.assertTrue(paper_of("\n".join(rows)) == paper)
+        for many in (61, 62, 70, 120):
+            for first, line in ((True, 61), (False, 120)):
+                paper, rows = nested(many, first=first)
+                self.assertEqual(paper_text(paper), "\n".join(rows))
+                self.bad(line, "\n".join(rows))
+
+    def test_the_one_too_deep_of_any_kind(self):
+        for row in ("way 0", "ring 0 1", "crowd", "fixed 3", "stretch saw 0 5", "cases 0 1", "cases 0", "cases"):
+            self.bad(61, "\n".join(["cases 0 1"] * 60 + [row]))
+            self.bad(61, "\n".join(["cases 0 1"] * 60 + [row] + ["way 0"] * 200))
+            self.assertNotEqual(error_of(paper_of, "\n".join(["cases 0 1"] * 59 + [row])).line, 60)
+        self.bad(61, "\n".join(["cases 0 1"] * 60))
+        self.bad(60, "\n".join(["cases 0 1"] * 59))
+
+    def test_just_as_deep_again_behind_others(self):
+        deep = ["cases 0 1"] * 58 + ["way 0"] * 59
+        text = "\n".join(["cases 0 1"] + deep + deep)
+        self.assertEqual(paper_text(paper_of(text)), text)
+        rows = ["cases 0 1"] + deep + ["cases 0 1"] * 59
+        self.bad(len(rows) + 1, "\n".join(rows))
+        self.bad(len(rows) + 1, "\n".join(rows + ["way 0"]))
+
+    def test_a_bad_row_beside_the_one_too_deep(self):
+        for place in (0, 3, 59, 60, 61, 70):
+            rows = ["cases 0 1"] * 60 + ["way 0"] * 61
+            rows[place] = "way 00"
+            self.bad(min(place, 60) + 1, "\n".join(rows))
 
     def test_as_deep_as_a_text_can_tell(self):
         with within(20):
-            for first in (True, False):
+            for first, line in ((True, 61), (False, 120)):
                 paper, rows = nested(1100, first=first)
                 text = "\n".join(rows)
                 self.assertLess(len(text), 20000)
                 self.assertEqual(paper_text(paper), text)
-                self.assertEqual(paper_text(paper_of(text)), text)
-                self.bad(len(rows) + 1, text + "\nway 0")
-                self.bad(len(rows), text[:-6])
+                self.bad(line, text)
 
     def test_as_wide_as_can_be(self):
         tasks = tuple(range(45))
@@ -251,13 +276,37 @@ class Great(Case):
                 text = paper_text(("cases", tasks, papers))
                 self.assertEqual(paper_of(text), ("cases", tasks, papers))
 
+    def test_two_thousand_rows_and_one_more(self):
+        # Each cases row has an even number of papers: so whole papers have 1999 rows, or 2001.
+        wide = ["cases " + " ".join(str(k) for k in range(45))] + ["way 0"] * 1980
+        inner = ["cases 0 1 2 3"] + ["way 0"] * 12
+        rows = ["cases 0 1"] + wide + inner
+        self.assertEqual(len(rows), 1995)
+        self.assertEqual(paper_text(paper_of("\n".join(rows))), "\n".join(rows))
+        whole = rows[:-1] + ["cases 0 1", "way 0", "cases 0 1", "way 0", "way 0"]
+        self.assertEqual(len(whole), 1999)
+        self.assertEqual(paper_text(paper_of("\n".join(whole))), "\n".join(whole))
+        self.bad(2000, "\n".join(whole + ["way 0"]))
+        longer = whole[:-1] + ["cases 0 1", "way 0", "way 0"]
+        self.assertEqual(len(longer), 2001)
+        self.bad(2001, "\n".join(longer))
+        self.bad(2001, "\n".join(longer[:2000]))
+        self.bad(2000, "\n".join(longer[:1999]))
+        self.bad(2001, "\n".join(longer + ["way 0"] * 50))
+
+    def test_a_bad_row_beside_the_one_too_many(self):
+        for place in (1, 1000, 1999, 2000, 2001, 2050):
+            rows = ["cases " + " ".join(str(k) for k in range(46))] + ["way 0"] * 2070
+            rows[place] = "way 00"
+            self.bad(min(place, 2000) + 1, "\n".join(rows))
+
     def test_far_more_rows_than_papers_may_have(self):
         tasks = tuple(range(300))
         papers = tuple([("way", (0,)), ("stretch", "saw", -5, 5)] * (150 * 299))
         with within(20):
             text = paper_text(("cases", tasks, papers))
             self.assertEqual(len(text.split("\n")), 89701)
-            self.assertTrue(paper_of(text) == ("cases", tasks, papers))
+            self.bad(2001, text)
 
     def test_far_more_papers_wanted_than_rows_told(self):
         with within(20):
