@@ -72,19 +72,27 @@ def crowd_bound(book, arcs, worth, tasks):
     return bound_of_crowd(book, gaps, worth, tasks)
 
 
+def crowd_for(book, begins, rests, machine):
+    """A tuple (BOUND, TASKS) of a crowd of the machine with the greatest bound by heads and tails; None without one."""
+    mine = [task for task, row in enumerate(book[TASKS]) if row[MACHINE] == machine and rests[task] is not None]
+    told = None
+    for start in sorted({begins[task] for task in mine}):
+        length = 0
+        # By tails falling, each of them in turn is the least one.
+        for rest, task in sorted([(rests[task], task) for task in mine if begins[task] >= start], reverse=True):
+            length += book[TASKS][task][LENGTH]
+            if told is None or start + length + rest > told[0]:
+                told = (start + length + rest, start, rest)
+    if told is None:
+        return None
+    bound, start, rest = told
+    return bound, [task for task in mine if begins[task] >= start and rests[task] >= rest]
+
+
 def best_crowd(book, arcs, worth, machine):
     """A tuple (BOUND, TASKS) of a crowd of the machine with the greatest bound; None where there is none."""
     begins = heads(book, arcs)
     rests = tails(book, arcs, worth)
     if machine not in book[MACHINES]:
         raise BadTasks("no machine of the book")
-    if begins is None:
-        return None
-    mine = [task for task, row in enumerate(book[TASKS]) if row[MACHINE] == machine and rests[task] is not None]
-    told = []
-    for start in sorted({begins[task] for task in mine}):
-        for rest in sorted({rests[task] for task in mine}):
-            crowd = [task for task in mine if begins[task] >= start and rests[task] >= rest]
-            if crowd:
-                told.append((crowd_sum(book, begins, rests, crowd), crowd))
-    return max(told, default=None)
+    return None if begins is None else crowd_for(book, begins, rests, machine)

@@ -5,6 +5,7 @@ from boundsmith.parts import BY, FIXED, FROM, GOODS, LENGTH, MACHINE, MACHINES, 
 
 LAST_HOUR = 1000000
 LAST_NUMBER = 1000000
+MOST_TASKS = 30
 MOST_OF_GOOD = 99
 MOST_LENGTH = 1000
 MOST_GAP = 1000
@@ -61,6 +62,6 @@ def is_book_form(thing):
         return False
     if not are_rows(thing[MACHINES], 0, 6, is_name) or not are_rows(thing[GOODS], 0, 4, is_many_of_good):
         return False
-    if not are_rows(thing[TASKS], 1, 30, is_task) or not are_rows(thing[WAITS], 0, 60, is_wait):
+    if not are_rows(thing[TASKS], 1, MOST_TASKS, is_task) or not are_rows(thing[WAITS], 0, 60, is_wait):
         return False
     return are_rows(thing[FIXED], 0, 30, is_fixing)

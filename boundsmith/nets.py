@@ -132,12 +132,8 @@ def way_behind(book, gaps, rests, worth, task):
     return way
 
 
-def longest(book, arcs, worth):
-    """A tuple (BOUND, WAY) of the net's bound; None with a ring, and where no task has a tail."""
-    begins = heads(book, arcs)
-    rests = tails(book, arcs, worth)
-    if begins is None:
-        return None
+def longest_by(book, gaps, worth, begins, rests):
+    """A tuple (BOUND, WAY) of the bound of a net by its gaps, heads and tails; None where no task has a tail."""
     sums = {}
     for task, row in enumerate(book[TASKS]):
         if rests[task] is not None:
@@ -146,5 +142,14 @@ def longest(book, arcs, worth):
         return None
     bound = max(list(sums.values()))
     top = min([task for task in sums if sums[task] == bound])
-    gaps = steps(book, arcs)
     return bound, way_to(book, gaps, begins, top) + way_behind(book, gaps, rests, worth, top)
+
+
+def longest(book, arcs, worth):
+    """A tuple (BOUND, WAY) of the net's bound; None with a ring, and where no task has a tail."""
+    gaps = steps(book, arcs)
+    need_worth(worth, NET_WORTHS)
+    begins = heads_by(book, gaps)
+    if begins is None:
+        return None
+    return longest_by(book, gaps, worth, begins, tails_by(book, gaps, worth))

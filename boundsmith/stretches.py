@@ -110,21 +110,55 @@ def is_stretch(book, arcs, worth, bound, name, first, behind):
     return shows_stretch(book, gaps, worth, bound, name, first, behind)
 
 
-def hours_of(loads):
-    """All hours of the tasks, each as often as it is needed."""
-    return sum([length * many for _, _, length, many in loads])
+def first_rising(firsts, behinds):
+    """The first (FIRST, BEHIND) of these hours with FIRST below BEHIND; None without one."""
+    for first in firsts:
+        for behind in behinds:
+            if first < behind:
+                return first, behind
+    return None
+
+
+def first_too_full(loads, room, firsts, behinds):
+    """The first (FIRST, BEHIND) from which to which more must lie than there is room for; None without one.
+
+    None of the loads ends too late.
+    """
+    for first in firsts:
+        # As the head is no later than the latest begin, the lesser hours are those behind FIRST, begun at the head, or
+        # those ahead of BEHIND, ended at the latest end.
+        hours = [(min(length, head + length - first), max(latest - length, first), many)
+                 for head, latest, length, many in loads if head + length > first]
+        most = sum([length * many for length, _, many in hours])
+        for behind in behinds:
+            free = room * (behind - first)
+            if 0 <= free < most and free < sum([min(length, behind - begin) * many
+                                                for length, begin, many in hours if begin < behind]):
+                return first, behind
+    return None
 
 
 def first_crowded(loads, room, firsts, behinds):
     """The first (FIRST, BEHIND) of a stretch that shows the bound; None without one."""
-    is_late = ends_too_late(loads)
-    most = hours_of(loads)
-    for first in firsts:
-        for behind in behinds:
-            # A stretch with room for all that the tasks want is never too full.
-            if first < behind and (is_late or room * (behind - first) < most):
-                if is_late or is_crowded(loads, room, first, behind):
-                    return first, behind
+    if ends_too_late(loads):
+        return first_rising(firsts, behinds)
+    return first_too_full(loads, room, firsts, behinds)
+
+
+def names_of(book):
+    """The goods, then the machines; a name that is both stands as the machine's alone."""
+    return [good for good, _ in book[GOODS] if good not in book[MACHINES]] + list(book[MACHINES])
+
+
+def stretch_by(book, gaps, worth, bound, begins):
+    """A (NAME, FIRST, BEHIND), FIRST a head and BEHIND a latest end, that shows the bound; None without one."""
+    ends = latest_by(book, gaps, worth, bound)
+    for name in names_of(book):
+        loads = loads_of(book, begins, ends, name)
+        firsts = sorted({head for head, _, _, _ in loads})
+        found = first_crowded(loads, room_of(book, name), firsts, sorted({latest for _, latest, _, _ in loads}))
+        if found is not None:
+            return (name,) + found
     return None
 
 
@@ -138,10 +172,8 @@ def stretch_for(book, arcs, worth, bound):
     timed = [(begins[task], ends[task], row[LENGTH]) for task, row in enumerate(book[TASKS]) if ends[task] is not None]
     firsts = sorted({hour for head, latest, length in timed for hour in (head, latest - length)})
     behinds = sorted({hour for head, latest, length in timed for hour in (latest, head + length)})
-    names = [good for good, _ in book[GOODS] if good not in book[MACHINES]] + list(book[MACHINES])
-    for name in names:
-        loads = loads_of(book, begins, ends, name)
-        found = first_crowded(loads, room_of(book, name), firsts, behinds)
+    for name in names_of(book):
+        found = first_crowded(loads_of(book, begins, ends, name), room_of(book, name), firsts, behinds)
         if found is not None:
             return (name,) + found
     return None

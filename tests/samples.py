@@ -1,6 +1,7 @@
 """Books and things that the tests share, and a look at what is raised."""
 
 import contextlib
+import itertools
 import random
 import signal
 
@@ -174,3 +175,94 @@ def length_by_hand(book, arcs, way):
     """All LENGTHs of a way and the gaps between."""
     gaps = gaps_by_hand(book, arcs)
     return sum(book[2][k][1] for k in way) + sum(gaps[pair] for pair in zip(way, way[1:]))
+
+
+def parts_of(paper, path=()):
+    """All parts of a paper with their paths, each ahead of its PAPERS."""
+    parts = [(path, paper)]
+    if paper[0] == "cases":
+        for place, part in enumerate(paper[2]):
+            parts.extend(parts_of(part, path + (place,)))
+    return parts
+
+
+def cases_in(paper):
+    """How many parts of a paper are cases."""
+    return sum(part[0] == "cases" for _, part in parts_of(paper))
+
+
+def counts(book, worth):
+    """Whether some task counts for a worth."""
+    return any(tail_by_hand(book, worth, number) is not None for number in range(len(book[2])))
+
+
+def fits_by_hand(book, plan, number, hour):
+    """Whether a task, begun at the hour, has its machine and goods beside those of the plan."""
+    row = book[2][number]
+    for at in sorted({hour} | {begin for begin in plan.values() if hour < begin < hour + row[1]}):
+        running = [k for k, begin in plan.items() if begin <= at < begin + book[2][k][1]]
+        if row[2] != "" and any(book[2][k][2] == row[2] for k in running):
+            return False
+        for good, many in book[1]:
+            if sum(dict(book[2][k][3]).get(good, 0) for k in running + [number]) > many:
+                return False
+    return True
+
+
+def plan_by_hand(book, order):
+    """The fixed ones placed, then the others in their order, each as early as can be; None where waits go against it."""
+    plan = dict(book[4])
+    for number in order:
+        ahead = [(a, gap) for a, b, gap in book[3] if b == number]
+        if any(a not in plan for a, _ in ahead):
+            return None
+        least = max([book[2][number][4]] + [plan[a] + book[2][a][1] + gap for a, gap in ahead])
+        hours = [least] + sorted(plan[k] + book[2][k][1] for k in plan if plan[k] + book[2][k][1] > least)
+        plan[number] = [hour for hour in hours if fits_by_hand(book, plan, number, hour)][0]
+    return tuple(plan[number] for number in range(len(book[2])))
+
+
+def is_good_by_hand(book, plan):
+    """Whether a plan is good, by the words of the document."""
+    tasks = book[2]
+    if any(plan[k] < tasks[k][4] for k in range(len(tasks))) or any(plan[k] != begin for k, begin in book[4]):
+        return False
+    if any(plan[b] < plan[a] + tasks[a][1] + gap for a, b, gap in book[3]):
+        return False
+    return all(fits_by_hand(book, {k: plan[k] for k in range(len(tasks)) if k != number}, number, plan[number])
+               for number in range(len(tasks)))
+
+
+def worth_by_hand(book, plan, worth):
+    """The span or the lateness of a plan."""
+    tails = {number: tail_by_hand(book, worth, number) for number in range(len(book[2]))}
+    return max(plan[k] + book[2][k][1] + tail for k, tail in tails.items() if tail is not None)
+
+
+def best_by_hand(book, worth):
+    """The least worth of all good plans, by all rows of tasks; None where there is no good plan."""
+    free = [number for number in range(len(book[2])) if number not in dict(book[4])]
+    plans = [plan_by_hand(book, order) for order in itertools.permutations(free)]
+    return min([worth_by_hand(book, plan, worth) for plan in plans if plan is not None and is_good_by_hand(book, plan)],
+               default=None)
+
+
+def tight_book(rng, most=4, times=1):
+    """A small book in which much is wanted at once; all hours are so many times as great."""
+    many = rng.randint(2, most)
+    machines = ("saw", "press")[:rng.randint(0, 2)]
+    goods = (("oil", rng.randint(1, 5)), ("crew", rng.randint(1, 3)))[:rng.randint(0, 2)]
+    tasks = []
+    for k in range(many):
+        needs = tuple((good, rng.randint(1, there)) for good, there in goods if rng.random() < 0.7)
+        due = rng.choice([None, rng.randint(0, 20) * times, rng.randint(0, 20) * times])
+        tasks.append(task(NAMES[k], rng.randint(1, 6) * times, rng.choice(("",) + machines * 3), needs,
+                          rng.choice([0, 0, rng.randint(0, 9) * times]), due, rng.choice([0, 1, 3])))
+    waits = [(a, b, rng.choice([0, rng.randint(0, 4)]) * times) for a, b in some_pairs(rng, many, rng.randint(0, 2))]
+    fixed = [(k, tasks[k][4] + rng.randint(0, 9) * times) for k in range(many) if rng.random() < 0.15]
+    return book_of_tasks(tasks, machines, goods, waits, fixed)
+
+
+def tight_books(many, seed, most=4, times=1):
+    rng = random.Random(seed)
+    return [tight_book(rng, most, times) for _ in range(many)]
