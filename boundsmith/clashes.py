@@ -3,8 +3,8 @@
 from boundsmith.crowdings import can_all, crowding_of
 from boundsmith.parts import FIXED, LENGTH, TASKS
 
-# Behind all ends that there can be.
-NEVER = 1000000000
+# Behind all ends of a plan that a search can meet, and above all worths of such; stretches may tell hours so great.
+NEVER = 2000000
 
 
 def clashes_of(book):

@@ -3,7 +3,7 @@
 from boundsmith.books import need_book
 from boundsmith.errors import BadBook, BadDeed, BadPlan, BadWorth
 from boundsmith.forms import LAST_HOUR, MOST_LENGTH
-from boundsmith.names import is_among, is_name
+from boundsmith.names import is_among
 from boundsmith.nets import is_task_of
 from boundsmith.parts import BY, FIXED, FROM, LENGTH, MACHINES, TASKS, WAITS
 from boundsmith.plans import fault_of
@@ -107,7 +107,7 @@ def with_wait(stand, one, other, gap):
 
 def with_closed(stand, name, machine, first, behind):
     """The stand with hours in which a machine is closed, and without a plan."""
-    need(is_name(machine) and machine in stand.book[MACHINES] and is_among(first, stand.hour, LAST_HOUR))
+    need(machine in stand.book[MACHINES] and is_among(first, stand.hour, LAST_HOUR))
     need(is_among(behind, first + 1, first + MOST_LENGTH))
     number = len(stand.book[TASKS])
     more = with_row(stand, (name, behind - first, machine, (), first, None, 0))

@@ -3,7 +3,7 @@
 from boundsmith.books import need_book
 from boundsmith.errors import BadRows
 from boundsmith.forms import LAST_HOUR, MOST_LENGTH, MOST_TASKS, is_row
-from boundsmith.names import LETTERS, is_among, is_name
+from boundsmith.names import LETTERS, is_among
 from boundsmith.parts import MACHINES, NAME, TASKS
 from boundsmith.plans import need_plan
 
@@ -16,7 +16,7 @@ def is_week(book, thing):
     if not is_row(thing, 5):
         return False
     machine, first, behind, every, many = thing
-    if not is_name(machine) or machine not in book[MACHINES]:
+    if machine not in book[MACHINES]:
         return False
     if not is_among(first, 0, LAST_HOUR) or not is_among(behind, 0, LAST_HOUR) or first >= behind:
         return False

@@ -5,8 +5,7 @@ from boundsmith.copies import copy_of
 from boundsmith.errors import BadWorth
 from boundsmith.growing import Search, try_lists, try_nodes
 from boundsmith.names import is_whole
-from boundsmith.papers import shows
-from boundsmith.search import need_most
+from boundsmith.search import MOST_CASES, need_most
 from boundsmith.worths import need_counted
 
 
@@ -42,7 +41,7 @@ def below(book, worth, goal, most, is_any_known):
     paper = search.made_paper()
     if search.plan is not None:
         return InTime(search.plan, search.value)
-    if not search.stuck and (is_any_known or shows(book, worth, None, paper)):
+    if not search.stuck and is_any_known:
         return Never(paper)
     # Where perhaps no plan at all is good, a paper for the goal is not yet the one that is asked for.
     return Open(min(search.stuck + [limit - 1]), paper)
@@ -54,11 +53,12 @@ def in_hours(book, worth, goal, most):
         raise BadWorth("the goal is no whole number")
     need_counted(book, worth)
     need_most(most)
-    search = Search(book, worth, most, None)
+    # Only papers that are told are held to the cases: whether some plan is good is asked of as many as there may be.
+    search = Search(book, worth, MOST_CASES, None)
     try_lists(search)
     if search.plan is None:
         try_nodes(search, True)
-        if search.plan is None and not search.stuck:
+        if search.plan is None and not search.stuck and search.cases <= most:
             return Never(search.made_paper())
     if search.plan is not None and search.value < goal:
         return InTime(search.plan, search.value)

@@ -65,6 +65,14 @@ def mixed_book(many, seed):
     return book_of_tasks(tasks, ("saw", "press"), goods, waits)
 
 
+def deep_book(many, seed, last):
+    """Tasks that need one good, one at a time, with hours and BYs by chance: papers for it lie deep in others."""
+    rng = random.Random(seed)
+    tasks = [task(NAMES[k], rng.randint(1, 9), "", (("oil", 1),), rng.randint(0, last), rng.randint(10, last + 40))
+             for k in range(many)]
+    return book_of_tasks(tasks, (), (("oil", 1),))
+
+
 def last_hour(book):
     """The hour above which no told plan begins a task."""
     tasks = book[2]
@@ -403,6 +411,15 @@ class Great(Case):
             if best.bound < best.value:
                 self.assertTrue(len(parts) > 1100 or most_deep >= 58)
         self.assertGreater(most_parts, 1100)
+
+    def test_papers_as_deep_in_others_as_they_may_be(self):
+        deepest = 0
+        for many in (20, 24):
+            for seed in range(4):
+                with within(40):
+                    best = self.held(deep_book(many, seed, 60), "late", 2000)
+                deepest = max(deepest, max(len(path) for path, _ in parts_of(best.paper)))
+        self.assertEqual(deepest, 59)
 
     def test_time_of_small_books(self):
         books = [book for book in tight_books(60, 10) + tight_books(60, 11, times=149) if counts(book, "span")]

@@ -120,6 +120,11 @@ class Refused(Case):
         for bound in (8, 7, 0, -5, -(10 ** 999)):
             self.assertIsNone(name_of_error(smaller, saw_book(), "span", bound, CROWD))
 
+    def test_bounds_and_worths_at_once(self):
+        for bound in (True, "8", [8], {}):
+            for worth in ("late", "sum", None):
+                self.assertEqual(name_of_error(smaller, saw_book(), worth, bound, CROWD), "BadWorth")
+
     def test_everything_with_a_fault(self):
         rng = random.Random(1)
         seen = 0
@@ -219,6 +224,15 @@ class Within(Case):
         told = self.held(book, "span", 4, paper)
         self.assertEqual((len(told[1]), len(told[2])), (2, 2))
         self.assertEqual(told[2], tuple(("way", arc) for arc in pairs_by_hand(told[1])))
+
+    def test_the_two_tasks_that_are_wanted_anywhere(self):
+        for many in (3, 4, 5):
+            for pair in pairs_by_hand(range(many)):
+                book = book_of_tasks([task("abcde"[k], 4, "saw" if k in pair else "") for k in range(many)], ("saw",))
+                for tasks in (tuple(range(many)), tuple(reversed(range(many)))):
+                    told = self.held(book, "span", 8, cases(tasks, *[("way", arc) for arc in pairs_by_hand(tasks)]))
+                    kept = tuple(k for k in tasks if k in pair)
+                    self.assertEqual(told, cases(kept, *[("way", arc) for arc in pairs_by_hand(kept)]))
 
     def test_a_paper_for_none(self):
         book = gaps_book(3)

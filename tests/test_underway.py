@@ -239,7 +239,8 @@ class Lengths(Case):
 
     def test_what_has_begun(self):
         shop = self.shop()
-        self.bad(shop, ("length", 0, 2), ("length", 0, 1))
+        self.bad(shop, ("length", 0, 2), ("length", 0, 1), ("length", 0, None), ("length", 0, "5"), ("length", 0, [5]),
+                 ("length", 0, True), ("length", 0, 1001), ("length", 0, 10 ** 999))
         self.done(shop, ("length", 0, 3))
         self.assertEqual((shop.its_book()[2][0][1], shop.following()), (3, (0, 6, 4, 5)))
         self.bad(shop, ("length", 0, 4), ("length", 0, 3))

@@ -11,8 +11,8 @@ from boundsmith.plans import fault_of, worth_of
 from boundsmith.search import best_plan
 from boundsmith.within import InTime, Never, Open, in_hours
 from tests.samples import (
-    best_by_hand, cases_in, counts, deep, error_of, name_of_error, parts_of, plain_book, shop_book, things, tight_books,
-    within)
+    best_by_hand, book_of_tasks, cases_in, counts, deep, error_of, name_of_error, parts_of, plain_book, put, shop_book,
+    task, things, tight_books, within)
 from tests.test_search import WORTHS, gaps_book, in_turn_book, mixed_book, no_plan_book, oil_book, saw_book
 
 FAR = 10 ** 999
@@ -164,6 +164,33 @@ class Few(Case):
                 self.assertIsInstance(self.held(book, "span", goal, most, True), Open)
             for most in (wanted, wanted + 1):
                 self.assertIsInstance(self.held(book, "span", goal, most, True), Never)
+
+    def test_goals_above_all_worths(self):
+        books = [put(gaps_book(many), (2, number, 5), due) for many in (2, 3, 4) for number in range(2 * many)
+                 for due in (0, 1000000)]
+        for book in books:
+            for most in (0, 1, 3):
+                for goal in (1999999, 2000000, 2000001, 10 ** 7, 10 ** 9, FAR):
+                    self.assertIsInstance(self.held(book, "late", goal, most, True), (Never, Open))
+
+    def test_that_some_plan_is_good_wants_no_cases(self):
+        # A book of which no plan is met without cases, though some are good: the net alone shows lesser goals.
+        tasks = [task("a", 2, "", (("oil", 5),), 0, 1), task("b", 6, "", (("oil", 2),), 0, 19),
+                 task("c", 2, "", (("oil", 3),), 0, 1), task("d", 3)]
+        book = book_of_tasks(tasks, (), (("oil", 5),), [(3, 0, 0), (0, 2, 0)], [(2, 7)])
+        best = best_plan(book, "span", 0)
+        self.assertEqual((best.plan, best.bound, best_by_hand(book, "span")), (None, 9, 11))
+        for goal in (-FAR, 0, 8, 9):
+            self.assertIsInstance(self.held(book, "span", goal, 0), Never)
+        self.assertIsInstance(self.held(book, "span", 12, 0), InTime)
+
+    def test_what_is_shown_without_cases(self):
+        for book in tight_books(200, 8) + tight_books(100, 9, 5):
+            for worth in WORTHS:
+                if counts(book, worth) and best_by_hand(book, worth) is not None:
+                    bound = best_plan(book, worth, 0).bound
+                    for goal in (bound, bound - 1):
+                        self.assertIsInstance(self.held(book, worth, goal, 0), Never)
 
     def test_what_the_net_shows_wants_no_cases(self):
         for book in tight_books(100, 7):
