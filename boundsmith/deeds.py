@@ -64,11 +64,10 @@ def with_plan(stand, plan):
 
 
 def with_hour(stand, hour):
-    """The stand at a later hour; what the plan begins ahead of it is fixed."""
-    need(is_among(hour, stand.hour + 1, LAST_HOUR))
+    """The stand at a later hour; what the plan that is followed begins ahead of it is fixed."""
+    need(stand.plan is not None and is_among(hour, stand.hour + 1, LAST_HOUR))
     fixed = dict(stand.book[FIXED])
-    begins = [] if stand.plan is None else list(enumerate(stand.plan))
-    begun = [(task, begin) for task, begin in begins if begin < hour and task not in fixed]
+    begun = [(task, begin) for task, begin in enumerate(stand.plan) if begin < hour and task not in fixed]
     return Stand(put_in(stand.book, FIXED, stand.book[FIXED] + tuple(begun)), hour, stand.plan)
 
 

@@ -66,7 +66,7 @@ class Made(Case):
 
     def test_another_desk_beside(self):
         one, other = Desk(JOBS, "span"), Desk(JOBS, "late")
-        self.told(one, ("hour 5", "done"), ("best 50", "best 15 bound 15\nplan 5 9 12 10\nway 0 3"))
+        self.told(one, ("plan 5 9 12 10", "done"), ("hour 5", "done"), ("best 50", "best 15 bound 15\nplan 5 9 12 10\nway 0 3"))
         self.told(other, ("now", "hour 0"), ("still", "papers"), ("undo", "no deed"))
 
 
@@ -99,6 +99,25 @@ class Deeds(Case):
                   "task e 2 - 1000001 - 1", "closed a saw 9 12", "closed off lathe 9 12", "closed off saw 1 12",
                   "closed off saw 9 9", "closed off saw 9 1010", "closed off saw 1000001 1000002", "closed off saw 12 9")
         self.told(desk, ("redo", "done"), ("redo", "no deed"))
+
+    def test_the_hour_goes_on_with_a_plan(self):
+        for worth in ("span", "late"):
+            desk = Desk(JOBS, worth)
+            self.same(desk, "no deed", "hour 3", "hour 1", "hour 0", "hour 1000000", "hour 1000001")
+            self.same(desk, "no line", "hour", "hour 3 4", "hour x", "hour -3")
+            self.told(desk, ("now", "hour 0"), ("plan 0 4 7 5", "done"), ("hour 3", "done"), ("now", "hour 3\nplan 0 4 7 5"))
+            for line, plan in (("task e 2 - 0 - 1", "0 4 7 5 9"), ("closed off press 90 95", "0 4 7 5 90"),
+                               ("length 0 5", "0 5 8 6"), ("length 1 4", "0 4 8 5"), ("wait 2 1 0", "0 6 4 5")):
+                self.told(desk, (line, "done"), ("now", "hour 3"))
+                self.same(desk, "no deed", "hour 4", "hour 3", "hour 1000000")
+                self.told(desk, ("plan " + plan, "done"), ("hour 4", "done"), ("now", "hour 4\nplan " + plan),
+                          ("undo", "done"), ("undo", "done"))
+                self.same(desk, "no deed", "hour 4")
+                self.told(desk, ("redo", "done"), ("hour 5", "done"), ("undo", "done"), ("undo", "done"), ("undo", "done"),
+                          ("now", "hour 3\nplan 0 4 7 5"))
+            self.told(desk, ("undo", "done"), ("undo", "done"))
+            self.same(desk, "no deed", "hour 3")
+            self.told(desk, ("redo", "done"), ("redo", "done"), ("now", "hour 3\nplan 0 4 7 5"))
 
     def test_words_that_are_no_names(self):
         desk = Desk(JOBS, "span")
@@ -262,7 +281,7 @@ class Looked(Case):
 
     def test_by_the_book_as_it_stands(self):
         desk = Desk(JOBS, "span")
-        self.told(desk, ("shows 12 way 0", "no way"), ("hour 8", "done"), ("shows 12 way 0", "yes"), ("smaller 12 way 0", "way 0"),
+        self.told(desk, ("shows 12 way 0", "no way"), ("plan 8 12 15 13", "done"), ("hour 8", "done"), ("shows 12 way 0", "yes"), ("smaller 12 way 0", "way 0"),
                   ("undo", "done"), ("shows 12 way 0", "no way"), ("smaller 12 way 0", "no paper"))
 
 
@@ -412,6 +431,7 @@ class Some(Case):
         self.assertEqual(set(answers), {line.split(" ")[0] for line in FULL})
         self.assertLessEqual({"best", "bound", "no", "too"}, answers["within"] | answers["best"])
         self.assertLessEqual({"yes", "no", "bad"}, answers["shows"])
+        self.assertEqual(answers["hour"], {"done", "no"})
 
     def test_read_again(self):
         for book in [shop_book()] + some_books(60, 8):
@@ -423,7 +443,9 @@ class Some(Case):
         for book in tight_books(40, 9):
             if counts(book, "span"):
                 desk = Desk(book_text(book), "span")
-                for line in ("best 2000", "within 5 2000", "within 9999 2000", "hour 3", "best 2000", "still", "now", "book"):
+                best = best_of(Shop(book, "span"))
+                plan = "now" if best is None else "plan " + " ".join(str(begin) for begin in best)
+                for line in ("best 2000", "within 5 2000", "within 9999 2000", plan, "hour 3", "best 2000", "still", "now", "book"):
                     before = time.process_time()
                     desk.say(line)
                     self.assertLess(time.process_time() - before, 0.5)

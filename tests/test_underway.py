@@ -77,9 +77,9 @@ class Model:
         if word == "plan":
             return (book, hour, deed[1]) if self.good(book, hour, deed[1]) else None
         if word == "hour":
-            if not whole[1] or not hour < deed[1] <= 1000000:
+            if plan is None or not whole[1] or not hour < deed[1] <= 1000000:
                 return None
-            new = tuple((k, begin) for k, begin in enumerate(plan or ()) if begin < deed[1] and k not in dict(fixed))
+            new = tuple((k, begin) for k, begin in enumerate(plan) if begin < deed[1] and k not in dict(fixed))
             return put(book, 4, fixed + new), deed[1], plan
         if word == "task":
             return put(book, 2, tasks + (deed[1],)), hour, None
@@ -165,7 +165,7 @@ class Plans(Case):
 
     def test_good_for_the_book_as_it_stands(self):
         shop = Shop(job_book(), "span")
-        self.done(shop, ("hour", 3))
+        self.done(shop, ("plan", (4, 8, 11, 9)), ("hour", 3))
         self.bad(shop, ("plan", (0, 4, 7, 5)), ("plan", (2, 6, 9, 7)))
         self.done(shop, ("plan", (3, 7, 10, 8)))
         self.done(shop, ("hour", 8))
@@ -193,6 +193,7 @@ class Plans(Case):
 class Hours(Case):
     def test_later(self):
         shop = Shop(job_book(), "span")
+        self.done(shop, ("plan", (0, 4, 7, 5)))
         self.bad(shop, ("hour", 0), ("hour", -1), ("hour", True), ("hour", "5"), ("hour", None), ("hour",), ("hour", 5, 6),
                  ("hour", 1000001), ("hour", 10 ** 999), ("hour", [5]))
         self.done(shop, ("hour", 1))
@@ -201,14 +202,17 @@ class Hours(Case):
         self.assertEqual(shop.the_hour(), 1000000)
         self.bad(shop, ("hour", 1000000), ("hour", 1000001), ("hour", 5))
 
-    def test_without_a_plan(self):
-        book = shop_book()
-        shop = Shop(book, "span")
-        self.done(shop, ("hour", 6))
+    def test_what_begins_at_the_hour_has_not_begun(self):
+        shop = Shop(shop_book(), "span")
+        self.done(shop, ("plan", (8, 6, 15, 8)), ("hour", 6))
         self.assertEqual([row[4] for row in shop.its_book()[2]], [6, 1, 6, 6])
-        self.assertEqual((shop.begun_tasks(), shop.following()), ([], None))
+        self.assertEqual((shop.begun_tasks(), shop.following()), ([], (8, 6, 15, 8)))
         self.done(shop, ("hour", 7))
         self.assertEqual((shop.begun_tasks(), shop.its_book()[4]), ([(1, 6)], ((1, 6),)))
+        self.done(shop, ("hour", 8))
+        self.assertEqual((shop.begun_tasks(), shop.its_book()[4]), ([(1, 6)], ((1, 6),)))
+        self.done(shop, ("hour", 9))
+        self.assertEqual(shop.begun_tasks(), [(0, 8), (1, 6), (3, 8)])
 
     def test_what_begins_ahead_is_fixed(self):
         shop = Shop(job_book(), "span")
@@ -231,6 +235,104 @@ class Hours(Case):
         self.assertEqual(shop.begun_tasks(), [(0, 0), (1, 6)])
 
 
+class HoursWithoutPlan(Case):
+    """The hour goes on with a plan that is followed, else the deed is refused."""
+
+    HOURS = [("hour", hour) for hour in (1, 2, 3, 4, 10, 999999, 1000000)]
+
+    def waits(self, shop):
+        """No plan is followed, and the hour goes on only behind one that is."""
+        self.assertIsNone(shop.following())
+        self.bad(shop, *self.HOURS, ("hour", 0), ("hour", 1000001), ("hour", None), ("hour",), ("hour", 9, 9))
+        hour, plan = shop.the_hour(), shop.planned(2000).plan
+        self.done(shop, ("plan", plan), ("hour", hour + 1))
+        self.assertEqual((shop.the_hour(), shop.following()), (hour + 1, plan))
+
+    def test_the_book_of_the_fault(self):
+        shop = Shop((("sa",), (), (("a", 1, "", (), 0, None, 1),), (), ()), "span")
+        self.bad(shop, ("hour", 10))
+        self.assertEqual(shop.the_hour(), 0)
+        self.waits(shop)
+
+    def test_a_new_shop(self):
+        with_plans = 0
+        for book in [shop_book(), job_book(), no_plan_book(2)] + some_books(40, 8):
+            for worth in ("span", "late"):
+                if counts(book, worth):
+                    shop = Shop(book, worth)
+                    self.bad(shop, *self.HOURS)
+                    self.assertEqual(stand(shop), (0, book, None, []))
+                    if name_of_error(shop.planned, 2000) is None:
+                        self.waits(shop)
+                        with_plans += 1
+        self.assertGreater(with_plans, 30)
+
+    def test_a_plan_that_is_refused(self):
+        shop = Shop(job_book(), "late")
+        self.bad(shop, ("plan", (0, 4, 6, 5)), ("hour", 1))
+        self.waits(shop)
+
+    def test_behind_task_and_closed(self):
+        for deed in (("task", task("e", 1)), ("closed", "off", "press", 900, 905)):
+            for worth in ("span", "late"):
+                shop = Shop(job_book(), worth)
+                self.done(shop, ("plan", (0, 4, 7, 5)), deed)
+                self.waits(shop)
+                shop = Shop(job_book(), worth)
+                self.done(shop, ("plan", (0, 4, 7, 5)), ("hour", 2), deed)
+                self.waits(shop)
+
+    def test_behind_a_deed_by_which_the_plan_is_not_good(self):
+        for deed in (("length", 1, 4), ("length", 0, 5), ("wait", 2, 1, 0), ("wait", 0, 1, 1)):
+            for worth in ("span", "late"):
+                shop = Shop(job_book(), worth)
+                self.done(shop, ("plan", (0, 4, 7, 5)), ("hour", 2), deed)
+                self.waits(shop)
+
+    def test_behind_a_deed_by_which_the_plan_is_good_still(self):
+        for deed in (("length", 1, 2), ("length", 0, 3), ("wait", 1, 2, 0), ("due", 0, None), ("gone", 2), ("plan", (0, 4, 8, 6))):
+            shop = Shop(job_book(), "span")
+            self.done(shop, ("plan", (0, 4, 7, 5)), ("hour", 2), deed, ("hour", 3))
+            self.assertEqual(shop.begun_tasks(), [(0, 0)])
+
+    def test_behind_an_undo_to_no_plan(self):
+        shop = Shop(job_book(), "span")
+        self.done(shop, ("plan", (0, 4, 7, 5)), ("hour", 1))
+        shop.undo()
+        shop.undo()
+        self.bad(shop, *self.HOURS)
+        shop.redo()
+        self.done(shop, ("hour", 5))
+        self.assertEqual((shop.the_hour(), shop.begun_tasks()), (5, [(0, 0), (1, 4)]))
+        shop.undo()
+        shop.undo()
+        self.waits(shop)
+
+    def test_behind_undo_and_redo_of_a_deed_by_which_none_is_followed(self):
+        for deed in (("task", task("e", 1)), ("length", 0, 5), ("closed", "off", "press", 900, 905)):
+            shop = Shop(job_book(), "span")
+            self.done(shop, ("plan", (0, 4, 7, 5)), deed)
+            shop.undo()
+            shop.redo()
+            self.bad(shop, *self.HOURS)
+            shop.undo()
+            self.done(shop, ("hour", 3))
+            self.assertEqual((shop.the_hour(), shop.following()), (3, (0, 4, 7, 5)))
+
+    def test_what_was_undone_stays(self):
+        shop = Shop(job_book(), "span")
+        self.done(shop, ("plan", (0, 4, 7, 5)), ("hour", 2))
+        before = stand(shop)
+        shop.undo()
+        shop.undo()
+        self.bad(shop, *self.HOURS)
+        self.assertEqual(name_of_error(shop.undo), "NoDeed")
+        shop.redo()
+        shop.redo()
+        self.assertEqual(stand(shop), before)
+        self.assertEqual(name_of_error(shop.redo), "NoDeed")
+
+
 class Lengths(Case):
     def shop(self):
         shop = Shop(job_book(), "span")
@@ -247,7 +349,7 @@ class Lengths(Case):
         shop = self.shop()
         self.done(shop, ("length", 0, 4), ("length", 0, 1000))
         self.assertIsNone(shop.following())
-        self.done(shop, ("hour", 999))
+        self.done(shop, ("plan", (0, 1003, 1000, 1001)), ("hour", 999))
         self.bad(shop, ("length", 0, 998))
         self.done(shop, ("length", 0, 999))
         self.bad(shop, ("length", 0, 1000))
@@ -273,7 +375,8 @@ class Lengths(Case):
 
     def test_what_is_fixed_and_has_not_begun(self):
         shop = Shop(shop_book(), "span")
-        self.done(shop, ("hour", 6), ("length", 1, 1), ("length", 1, 900), ("hour", 7), ("length", 1, 1))
+        self.done(shop, ("plan", (0, 6, 7, 8)), ("hour", 6), ("length", 1, 1), ("length", 1, 900))
+        self.done(shop, ("plan", (0, 6, 7, 906)), ("hour", 7), ("length", 1, 1))
         self.bad(shop, ("length", 1, 2))
 
 
@@ -298,7 +401,8 @@ class Tasks(Case):
 
     def test_from_ahead_of_the_hour(self):
         shop = Shop(job_book(), "span")
-        self.done(shop, ("hour", 50), ("task", task("e", 2, "saw")), ("task", task("f", 2, "saw", (), 60)))
+        self.done(shop, ("plan", (50, 60, 70, 80)), ("hour", 50))
+        self.done(shop, ("task", task("e", 2, "saw")), ("task", task("f", 2, "saw", (), 60)))
         self.assertEqual([row[4] for row in shop.its_book()[2]], [50, 50, 50, 50, 50, 60])
 
 
@@ -326,11 +430,11 @@ class Gone(Case):
 
     def test_one_at_the_hour_is_not_begun(self):
         shop = Shop(plain_book(2, fixed=[(0, 5)]), "span")
-        self.done(shop, ("hour", 5))
+        self.done(shop, ("plan", (5, 9)), ("hour", 5))
         self.assertEqual(shop.begun_tasks(), [])
         self.done(shop, ("gone", 0))
         shop = Shop(plain_book(2, fixed=[(0, 5)]), "span")
-        self.done(shop, ("hour", 6))
+        self.done(shop, ("plan", (5, 9)), ("hour", 6))
         self.assertEqual(shop.begun_tasks(), [(0, 5)])
         self.bad(shop, ("gone", 0))
 
@@ -399,7 +503,7 @@ class Closed(Case):
 
     def test_bounds(self):
         shop = Shop(job_book(), "span")
-        self.done(shop, ("hour", 5))
+        self.done(shop, ("plan", (5, 9, 12, 10)), ("hour", 5))
         self.bad(shop, ("closed", "off", "saw", 4, 9), ("closed", "off", "saw", 5, 5), ("closed", "off", "saw", 9, 8),
                  ("closed", "off", "saw", 5, 1006), ("closed", "off", "saw", 1000001, 1000002), ("closed", "off", "", 5, 9),
                  ("closed", "off", "lathe", 5, 9), ("closed", "a", "saw", 5, 9), ("closed", "", "saw", 5, 9),
@@ -449,7 +553,8 @@ class Any(Case):
         one, other = Shop(book, "span"), Shop(book, "late")
         self.done(one, ("plan", (0, 4, 7, 5)), ("hour", 5), ("gone", 2))
         self.assertEqual(stand(other), (0, book, None, []))
-        self.done(other, ("hour", 9))
+        self.bad(other, ("hour", 9))
+        self.done(other, ("plan", (0, 4, 7, 5)), ("hour", 9))
         self.assertEqual((one.the_hour(), other.the_hour()), (5, 9))
         one.undo()
         self.assertEqual(name_of_error(other.redo), "NoDeed")
@@ -459,7 +564,7 @@ class Undone(Case):
     def test_one_behind_the_other(self):
         shop = Shop(job_book(), "span")
         deeds = [("plan", (0, 4, 7, 5)), ("hour", 2), ("length", 0, 3), ("wait", 1, 2, 0), ("due", 1, None), ("gone", 2),
-                 ("task", task("e", 2)), ("closed", "off", "saw", 9, 12), ("hour", 30)]
+                 ("task", task("e", 2)), ("closed", "off", "saw", 9, 12), ("plan", (0, 4, 5, 2, 9)), ("hour", 30)]
         stood = [stand(shop)]
         for deed in deeds:
             self.done(shop, deed)
@@ -476,7 +581,7 @@ class Undone(Case):
 
     def test_a_new_deed_behind_an_undone_one(self):
         shop = Shop(job_book(), "span")
-        self.done(shop, ("hour", 2), ("hour", 5))
+        self.done(shop, ("plan", (0, 4, 7, 5)), ("hour", 2), ("hour", 5))
         shop.undo()
         self.done(shop, ("hour", 4))
         self.assertEqual(name_of_error(shop.redo), "NoDeed")
@@ -490,7 +595,7 @@ class Undone(Case):
 
     def test_a_refused_deed_forgets_nothing(self):
         shop = Shop(job_book(), "span")
-        self.done(shop, ("hour", 2), ("hour", 5))
+        self.done(shop, ("plan", (0, 4, 7, 5)), ("hour", 2), ("hour", 5))
         shop.undo()
         self.bad(shop, ("hour", 1), None, ("gone", 9), ("plan", ()))
         shop.planned(0)
@@ -498,16 +603,16 @@ class Undone(Case):
         self.assertEqual(shop.the_hour(), 5)
         self.assertEqual(name_of_error(shop.redo), "NoDeed")
 
-    def test_a_hundred_and_fifty(self):
+    def test_two_hundred(self):
         shop = Shop(job_book(), "span")
         with within(20):
             for turn in range(50):
-                self.done(shop, ("hour", turn + 1), ("task", task("e", 1)), ("gone", 4))
-            for _ in range(150):
+                self.done(shop, ("plan", (90, 94, 97, 95)), ("hour", turn + 1), ("task", task("e", 1)), ("gone", 4))
+            for _ in range(200):
                 shop.undo()
             self.assertEqual(name_of_error(shop.undo), "NoDeed")
             self.assertEqual(stand(shop), (0, job_book(), None, []))
-            for _ in range(150):
+            for _ in range(200):
                 shop.redo()
         self.assertEqual(shop.the_hour(), 50)
 
